@@ -1,17 +1,11 @@
 """Cases: what may be so of the things on the scales."""
 
 from panplan.errors import BadCases, BadCount
+from panplan.kinds import is_sign, is_tuple_of, is_whole
 
 FEWEST_THINGS = 2
 MOST_THINGS = 5
 MOST_CASES = 12
-
-
-def is_whole(thing):
-    """Tell whether a thing, any thing, is a whole number."""
-    # Kinds are compared exactly, here and below: True is an int by descent, and an
-    # object of a kind of its own may answer a comparison by an error of its own.
-    return type(thing) is int
 
 
 def need_count(many):
@@ -24,9 +18,7 @@ def need_count(many):
 
 def is_case(many, thing):
     """Tell whether a thing, any thing, is a case of so many things."""
-    if type(thing) is not tuple or len(thing) != many:
-        return False
-    return all(is_whole(number) and -1 <= number <= 1 for number in thing)
+    return is_tuple_of(many, thing) and all(is_sign(number) for number in thing)
 
 
 def need_cases(many, cases):

@@ -2,7 +2,8 @@
 
 from itertools import combinations
 
-from panplan.cases import is_whole, need_count
+from panplan.cases import need_count
+from panplan.kinds import is_tuple_of, is_whole
 
 
 def leading(many):
@@ -28,7 +29,7 @@ def are_apart(left, right):
 
 def is_weighing(many, thing):
     """Tell whether a thing, any thing, is a weighing of so many things."""
-    if type(thing) is not tuple or len(thing) != 2:
+    if not is_tuple_of(2, thing):
         return False
     left, right = thing
     if not is_pan(many, left) or not is_pan(many, right):
@@ -59,3 +60,16 @@ def came(weighing, case):
 def summed(pan, case):
     """Sum up a case's numbers of the things in a pan."""
     return sum(case[thing] for thing in pan)
+
+
+def parted(weighing, cases):
+    """List the three lists of the cases in which a weighing comes to -1, to 0 and to 1."""
+    parts = [[], [], []]
+    for case in cases:
+        parts[came(weighing, case) + 1].append(case)
+    return parts
+
+
+def outcomes_of(weighings, cases):
+    """List for each weighing the list of what it comes to in each of the cases."""
+    return [[came(weighing, case) for case in cases] for weighing in weighings]

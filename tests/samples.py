@@ -1,6 +1,8 @@
 """Values that several tests hand in."""
 
-from itertools import product
+from functools import cache
+from itertools import combinations, product
+from random import Random
 
 COUNTS = (2, 3, 4, 5)
 
@@ -74,6 +76,11 @@ NO_COUNTS = NO_WHOLE_NUMBERS + (1, 6, 0, 7, 100, -1, -2, -5, VERY_GREAT, -VERY_G
 
 def all_weighings(many):
     """All weighings of so many things, told by laying each thing left, right or aside."""
+    return list(kept_weighings(many))
+
+
+@cache
+def kept_weighings(many):
     found = []
     for places in product("lr-", repeat=many):
         left = tuple(thing for thing in range(many) if places[thing] == "l")
@@ -85,3 +92,89 @@ def all_weighings(many):
 
 def all_cases(many):
     return list(product((-1, 0, 1), repeat=many))
+
+
+def one_apart(many, *numbers):
+    """The cases of so many things in which one thing has one of these numbers and all others 0."""
+    cases = []
+    for number in numbers:
+        for thing in range(many):
+            cases.append(tuple(number if other == thing else 0 for other in range(many)))
+    return cases
+
+
+def two_heavier(many):
+    return [tuple(int(thing in pair) for thing in range(many)) for pair in combinations(range(many), 2)]
+
+
+# Cases that fewer than four weighings don't tell.
+SLOW = [
+    (0, -1, 1, -1), (-1, 0, 1, -1), (0, -1, 1, 0), (-1, 0, 0, 0), (-1, -1, 0, -1), (1, 0, 0, -1),
+    (1, -1, 1, 0), (0, -1, -1, -1), (1, -1, 0, -1), (-1, 0, 1, 1), (1, 0, 1, -1), (-1, 0, 1, 0),
+]
+
+
+def drawn_cases(many, times):
+    """So many lists of cases, of one to twelve, drawn by chance that is the same each time."""
+    chance = Random(many)
+    everything = all_cases(many)
+    for _ in range(times):
+        yield chance.sample(everything, chance.randint(1, min(12, len(everything))))
+
+
+def drawn_done(many, cases, times):
+    """So many lists of weighings that were done where one of the cases is so, drawn likewise."""
+    chance = Random(len(cases))
+    weighings = all_weighings(many)
+    for _ in range(times):
+        case = chance.choice(cases)
+        picked = [chance.choice(weighings) for _ in range(chance.randint(0, 3))]
+        yield [(weighing, outcome(weighing, case)) for weighing in picked]
+
+
+def outcome(weighing, case):
+    """What a weighing comes to in a case, told apart from the program."""
+    left, right = (sum(case[thing] for thing in pan) for pan in weighing)
+    return (left > right) - (left < right)
+
+
+NO_OUTCOMES = NO_WHOLE_NUMBERS + (2, -2, 3, VERY_GREAT, -VERY_GREAT)
+NO_LISTS = (
+    None, True, False, 0, 1, 2, 1.5, "", "01", b"01", (), {}, {1, 2}, frozenset(), range(2), iter([]), list, len,
+    Plain(), EqualToAll(), Touchy(), TouchyList(), TouchyTuple(),
+)
+NO_TUPLES = NO_LISTS[:10] + ([], [0, 1]) + NO_LISTS[11:]
+
+
+def no_cases(many):
+    """Things of many kinds that are no list of cases of so many things."""
+    good = (1,) + (0,) * (many - 1)
+    wrong = list(NO_LISTS) + [[], (good,), {good}, {good: 1}, TouchyList([good]), iter([good])]
+    wrong += [[good, good], [good, (0,) * many, good], [(0,) * many] * 13, [good[:-1]], [good + (0,)], [list(good)]]
+    wrong += [[(0,) * many, thing] for thing in NO_TUPLES]
+    wrong += [[(number,) + (0,) * (many - 1)] for number in NO_OUTCOMES]
+    wrong += [[(0,) * (many - 1) + (number,), good] for number in NO_OUTCOMES]
+    if many > 2:
+        wrong += [all_cases(many)[:13], all_cases(many)]
+    return wrong
+
+
+def no_weighings(many):
+    """Things of many kinds that are no weighing of so many things."""
+    wrong = list(NO_TUPLES) + [(), ((0,),), ((0,), (1,), ()), ((0,), (1,), (0,)), (0, 1), [(0,), (1,)]]
+    wrong += [([0], (1,)), ((0,), [1]), ((0,), (0,)), ((), ()), ((0,), ()), ((0,), (many,)), ((-1,), (0,))]
+    wrong += [((1, 0), (2, 3)), ((0, 0), (1, 1)), ((0, 1), (0, 2)), ((0,), (1, 2)), ((0, 1), (2, many))]
+    wrong += [((number,), (1,)) for number in NO_WHOLE_NUMBERS] + [((0,), (number,)) for number in NO_WHOLE_NUMBERS]
+    return wrong
+
+
+def no_done(many):
+    """Things of many kinds that are no list of weighings that were done with so many things."""
+    weighing = ((0,), (1,))
+    good = (weighing, 1)
+    wrong = list(NO_LISTS) + [(good,), {good}, {good: 1}, iter([good]), TouchyList([good]), good, [weighing], [good] * 21]
+    wrong += [[(weighing, number) for number in (-1, 0, 1) * 7], [good] * 20 + [None], [good] * 1000]
+    wrong += [[good, thing] for thing in NO_TUPLES]
+    wrong += [[list(good)], [(weighing,)], [()], [(weighing, 1, 1)], [(1, weighing)], [((0,), (1,), 1)]]
+    wrong += [[(weighing, number)] for number in NO_OUTCOMES] + [[(thing, 0), good] for thing in no_weighings(many)]
+    return wrong
