@@ -82,7 +82,8 @@ def tried_least(many, cases):
             return False
         if (some, number) not in tried:
             tried[some, number] = any(
-                all(tells(tuple(part), number - 1) for part in parts_by(weighing, some).values()) for weighing in weighings
+                all(tells(tuple(part), number - 1) for part in parts_by(weighing, some).values())
+                for weighing in weighings
             )
         return tried[some, number]
 

@@ -172,8 +172,8 @@ def no_done(many):
     """Things of many kinds that are no list of weighings that were done with so many things."""
     weighing = ((0,), (1,))
     good = (weighing, 1)
-    wrong = list(NO_LISTS) + [(good,), {good}, {good: 1}, iter([good]), TouchyList([good]), good, [weighing], [good] * 21]
-    wrong += [[(weighing, number) for number in (-1, 0, 1) * 7], [good] * 20 + [None], [good] * 1000]
+    wrong = list(NO_LISTS) + [(good,), {good}, {good: 1}, iter([good]), TouchyList([good]), good, [weighing]]
+    wrong += [[(weighing, number) for number in (-1, 0, 1) * 7], [good] * 20 + [None], [good] * 21, [good] * 1000]
     wrong += [[good, thing] for thing in NO_TUPLES]
     wrong += [[list(good)], [(weighing,)], [()], [(weighing, 1, 1)], [(1, weighing)], [((0,), (1,), 1)]]
     wrong += [[(weighing, number)] for number in NO_OUTCOMES] + [[(thing, 0), good] for thing in no_weighings(many)]

@@ -185,8 +185,8 @@ class IsHold(unittest.TestCase):
     def test_any_thing(self):
         for cases, number in ((SIX, 1), (SIX, 2), (SIX, 0), (SIX, 20)):
             self.refute(3, cases, number, NO_LISTS + NO_OUTCOMES + NO_WORDS + (
-                SIX_HOLD[1], list(SIX_HOLD), ["many"], ("many", None), ("many", MANY), (MANY,), ("each",), ("each", MANY),
-                ("each", None), ("each", MANY, MANY), TouchyTuple(MANY), all_cases, ("many", "many"),
+                SIX_HOLD[1], list(SIX_HOLD), ["many"], ("many", None), ("many", MANY), (MANY,), ("each",),
+                ("each", MANY), ("each", None), ("each", MANY, MANY), TouchyTuple(MANY), all_cases, ("many", "many"),
             ))
 
     def test_any_thing_for_a_word(self):
