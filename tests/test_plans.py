@@ -92,7 +92,8 @@ class IsPlan(unittest.TestCase):
         self.expect(3, [B], ("weigh", FIRST, (("told", B), None, None)), True)
         self.refute(3, [A, B], [
             ("weigh", FIRST, (("told", B), ("told", C), ("told", A))),
-            ("weigh", FIRST, (("told", B), ("told", A), None)), ("weigh", FIRST, (None, None, ("told", A))), ("weigh", FIRST, (("told", B), None, None)),
+            ("weigh", FIRST, (("told", B), ("told", A), None)), ("weigh", FIRST, (None, None, ("told", A))),
+            ("weigh", FIRST, (("told", B), None, None)),
             ("weigh", FIRST, (None, None, None)), None,
         ])
         for place in range(3):
