@@ -225,10 +225,13 @@ class Throughout(Checked):
             answer = told(many, cases, [])
             for case in cases if answer[0] == "plan" else ():
                 steps = walked(answer[1], case)
-                for place in range(len(steps) + 1):
+                left = answer[1]
+                for place, (weighing, sign) in enumerate(steps):
                     sort, length = self.check(many, cases, steps[:place])
                     self.assertEqual(sort, "plan")
-                    self.assertLessEqual(length, look_length(answer[1]) - place)
+                    self.assertLessEqual(length, look_length(left))
+                    left = left[2][sign + 1]
+                self.assertEqual(left, ("told", case))
                 self.assertEqual(told(many, cases, steps), ("plan", ("told", case), None))
 
     def test_the_cases_in_another_order(self):
